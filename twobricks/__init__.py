@@ -1,0 +1,1 @@
+"""Twobricks: boxes filled by two kinds of bricks."""
