@@ -1,4 +1,4 @@
-"""The rules of LANGUAGE.md that can be read off the files of the package one by one: L1, L2, L8, L10, L14, L16, L27."""
+"""Rules of LANGUAGE.md that can be read off the files of the package: L1 to L8, L10, L12, L14 to L17, L19, L27."""
 
 import ast
 import builtins
@@ -15,6 +15,20 @@ ALLOWED_BUILTINS = set(
     "RuntimeError NotImplementedError AttributeError StopIteration NotImplemented object".split()
 )
 ALLOWED_LIBRARIES = ("heapq", "math", "itertools", "collections", "__future__")
+
+# L17: in no file, but in comments and docstrings.
+BARRED_WORDS = set(
+    "type typing typing_extensions enum Enum IntEnum StrEnum Flag IntFlag Generic Protocol ABC ABCMeta namedtuple "
+    "NamedTuple TypedDict TYPE_CHECKING abstractmethod dataclass overload contextmanager".split()
+)
+BARRED_NAMES = set(
+    "register mro elements open input law version_info with_traceback add_note attrgetter breakpoint builtins compile "
+    "copyright credits delattr dir eval exec exit gc globals help id importlib license locals methodcaller os quit "
+    "vars sys".split()
+)
+BARRED_NODES = (
+    ast.Global, ast.AsyncFunctionDef, ast.AsyncFor, ast.AsyncWith, ast.Await, ast.Div, ast.MatMult, ast.Import,
+)
 
 
 def package_files():
@@ -53,6 +67,62 @@ class LanguageTest(unittest.TestCase):
                     self.assertTrue(node.module.startswith("twobricks.") or node.module in ALLOWED_LIBRARIES)
                     for name in node.names:
                         self.assertNotEqual(name.name, "*")
+
+    def test_no_two_files_import_from_each_other(self):
+        imported = {}
+        for path in package_files():
+            if path.suffix == ".py":
+                tree = ast.parse(path.read_text(encoding="utf-8"))
+                modules = [node.module for node in tree.body if isinstance(node, ast.ImportFrom)]
+                imported["twobricks." + path.stem] = [name for name in modules if name.startswith("twobricks.")]
+        for _ in range(len(imported)):
+            # What imports nothing that is left can be left out; at last all can.
+            imported = {name: [one for one in imported[name] if one in imported] for name in imported}
+            imported = {name: needs for name, needs in imported.items() if needs}
+        self.assertEqual(imported, {})
+
+    def test_module_level(self):
+        for text, tree in self.each_tree():
+            bound = []
+            for at, node in enumerate(tree.body):
+                if isinstance(node, ast.ImportFrom):
+                    bound.extend(name.asname or name.name for name in node.names)
+                elif isinstance(node, (ast.FunctionDef, ast.ClassDef)):
+                    bound.append(node.name)
+                elif isinstance(node, ast.Assign):
+                    self.assertEqual([name.__class__ for name in node.targets], [ast.Name])
+                    bound.append(node.targets[0].id)
+                else:
+                    self.assertEqual((at, node.__class__), (0, ast.Expr))
+            self.assertEqual(sorted(bound), sorted(set(bound)))
+            self.check_local_names(tree, set(bound))
+
+    def check_local_names(self, tree, bound):
+        """No parameter and no local name is one that the file imports or a builtin's."""
+        imports = {name.name for node in tree.body if isinstance(node, ast.ImportFrom) for name in node.names}
+        names = [node.arg for node in ast.walk(tree) if isinstance(node, ast.arg)]
+        names += [node.id for node in ast.walk(tree) if isinstance(node, ast.Name) and isinstance(node.ctx, ast.Store)]
+        for name in names:
+            self.assertNotIn(name, imports)
+        for name in names + list(bound - imports):
+            self.assertNotIn(name, dir(builtins))
+            self.assertNotIn(name, BARRED_NAMES)
+            self.assertRegex(name, r"\A(_|_?[A-Za-z][A-Za-z0-9_]*)\Z")
+
+    def test_statements_and_values(self):
+        for _, tree in self.each_tree():
+            docstrings = {node.body[0].value for node in ast.walk(tree)
+                          if isinstance(node, (ast.Module, ast.ClassDef, ast.FunctionDef)) and ast.get_docstring(node)}
+            for node in ast.walk(tree):
+                self.assertNotIsInstance(node, BARRED_NODES)
+                if isinstance(node, ast.Constant):
+                    self.assertNotIsInstance(node.value, (float, complex))
+                    if isinstance(node.value, str) and node not in docstrings:
+                        self.assertFalse(BARRED_WORDS & set(re.findall(r"\w+", node.value)))
+                for name in ("id", "attr", "arg", "name"):
+                    self.assertNotIn(getattr(node, name, None), BARRED_WORDS)
+                if isinstance(node, ast.Raise):
+                    self.assertIsInstance(node.exc, ast.Call)
 
     def test_builtins(self):
         barred = set(dir(builtins)) - ALLOWED_BUILTINS

@@ -72,3 +72,8 @@ def volume(sides):
     for side in sides:
         cells = cells * side
     return cells
+
+
+def with_side(sides, axis, side):
+    """The sides, or a corner, with this number along the axis."""
+    return sides[:axis] + (side,) + sides[axis + 1:]

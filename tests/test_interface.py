@@ -1,0 +1,49 @@
+"""A3 and the interface: each function stands in its file, with the names of its arguments."""
+
+import importlib
+import inspect
+import unittest
+
+INTERFACE = {
+    "forms": (
+        "sides_error(value)", "kinds_error(value)", "pair_error(value)", "box_error(kinds, value)",
+        "is_cell(box, value)", "volume(sides)",
+    ),
+    "texts": ("sides_text(sides)", "kinds_text(kinds)", "parse_sides(value)", "parse_kinds(value)"),
+    "fillings": (
+        "covered(kinds, placed)", "lies_in(kinds, box, value)", "places(kinds, box)",
+        "filling_error(kinds, box, value)", "counts_in(kinds, filling)", "line_in(kinds, box, filling, axis, cell)",
+        "fill(pair, box)", "seams(kinds, box, filling)", "halves(kinds, box, filling, axis, at)",
+        "joined(kinds, box, filling, other_box, other, axis)", "mirrored(kinds, box, filling, axis)",
+    ),
+    "counting": (
+        "count_fillings(kinds, box)", "filling_at(kinds, box, number)", "filling_number(kinds, box, value)",
+        "first_filling(kinds, box)",
+    ),
+    "papers": (
+        "is_filled(pair, box)", "paper(pair, box)", "paper_holds(pair, box, value)", "bar_papers(pair, box)",
+        "count_cuts(pair, box)", "cut_at(pair, box, number)", "cut_number(pair, box, value)", "needed(pair, box)",
+        "most_of(pair, box, kind)",
+    ),
+    "weights": (
+        "weights_error(box, value)", "sum_in(kinds, weights, placed)", "total(weights)",
+        "lightest(kinds, box, weights)", "bars(kinds, box, value)", "added(one, other)", "times(weights, number)",
+        "find_weights(pair, box)", "weights_by(pair, box, value)", "thickness(kinds, box, value)",
+    ),
+}
+
+
+class InterfaceTest(unittest.TestCase):
+    def test_functions(self):
+        for file, signatures in INTERFACE.items():
+            module = importlib.import_module("twobricks." + file)
+            for signature in signatures:
+                name = signature.partition("(")[0]
+                function = getattr(module, name)
+                self.assertTrue(inspect.isfunction(function), name)
+                self.assertEqual(function.__module__, module.__name__)
+                self.assertEqual(name + str(inspect.signature(function)), signature)
+
+
+if __name__ == "__main__":
+    unittest.main()
