@@ -1,4 +1,4 @@
-"""Rules of LANGUAGE.md that can be read off the files of the package: L1 to L8, L10, L12, L14 to L17, L19, L27."""
+"""Rules of LANGUAGE.md that can be read off the files of the package: L1 to L8, L10, L12, L14 to L20, L25 to L28."""
 
 import ast
 import builtins
@@ -29,6 +29,20 @@ BARRED_NAMES = set(
 BARRED_NODES = (
     ast.Global, ast.AsyncFunctionDef, ast.AsyncFor, ast.AsyncWith, ast.Await, ast.Div, ast.MatMult, ast.Import,
 )
+
+# L5: of a class with operators, whether it is an error class or not.
+PLAIN_SIGNS = set("__init__ __eq__ __repr__ __str__ __len__".split())
+SIGNS = PLAIN_SIGNS | set(
+    "__call__ __iter__ __contains__ __getitem__ __setitem__ __bool__ __invert__ __mul__ __iadd__".split()
+)
+
+# L25: methods of builtin values that the package may call; all others that are called are its own.
+VALUE_METHODS = set(
+    "append clear copy count endswith extend find get index insert isalnum isalpha isdigit islower isspace isupper "
+    "items join keys ljust lower lstrip partition pop remove replace reverse rfind rjust rpartition rsplit rstrip "
+    "setdefault split splitlines startswith strip update upper values zfill bit_length add discard".split()
+)
+MODIFYING = set("append clear extend insert pop remove reverse setdefault update add discard".split())
 
 
 def package_files():
@@ -123,6 +137,103 @@ class LanguageTest(unittest.TestCase):
                     self.assertNotIn(getattr(node, name, None), BARRED_WORDS)
                 if isinstance(node, ast.Raise):
                     self.assertIsInstance(node.exc, ast.Call)
+
+    def test_methods_that_are_called(self):
+        own = {node.name for found in self.each_class() for node in found.body if isinstance(node, ast.FunctionDef)}
+        for _, tree in self.each_tree():
+            for node in ast.walk(tree):
+                if isinstance(node, ast.Call) and isinstance(node.func, ast.Attribute):
+                    self.assertIn(node.func.attr, own | VALUE_METHODS)
+                    if node.func.attr in VALUE_METHODS:
+                        self.assertEqual(node.keywords, [])
+
+    def each_class(self):
+        for _, tree in self.each_tree():
+            for node in tree.body:
+                if isinstance(node, ast.ClassDef):
+                    yield node
+
+    def test_classes(self):
+        for found in self.each_class():
+            methods = [node for node in found.body if isinstance(node, ast.FunctionDef)]
+            names = [node.name for node in methods]
+            self.assertEqual(found.decorator_list, [])
+            self.assertEqual(sorted(names), sorted(set(names)), found.name)
+            is_error = found.name != "Yard" and any(base.id in ("BrickError", "ValueError") for base in found.bases)
+            for node in methods:
+                if node.name.startswith("__"):
+                    self.assertIn(node.name, PLAIN_SIGNS if is_error else SIGNS)
+                self.assertLessEqual(len(node.decorator_list), 1)
+                for word in node.decorator_list:
+                    self.assertIn(word.id, ("property", "classmethod"))
+                    self.assertFalse(is_error)
+            self.assertTrue("__getitem__" not in names or "__iter__" in names, found.name)
+
+    def test_names_of_attributes(self):
+        """No name is a method and an attribute, and what is read of an object is there."""
+        methods, attributes = set(), set()
+        for found in self.each_class():
+            methods |= {node.name for node in found.body if isinstance(node, ast.FunctionDef)}
+            attributes |= {node.attr for node in ast.walk(found)
+                           if isinstance(node, ast.Attribute) and isinstance(node.ctx, ast.Store)}
+        self.assertFalse(methods & attributes)
+        for _, tree in self.each_tree():
+            for node in ast.walk(tree):
+                if isinstance(node, ast.Attribute) and isinstance(node.ctx, ast.Load):
+                    self.assertIn(node.attr, methods | attributes | VALUE_METHODS | {"__class__", "__name__"})
+
+    def test_signs_change_nothing(self):
+        """L5, L28: what Python's signs and properties run neither assigns attributes nor modifies what it is passed."""
+        for found in self.each_class():
+            for node in found.body:
+                if isinstance(node, ast.FunctionDef) and self.must_change_nothing(node):
+                    for part in ast.walk(node):
+                        self.assertNotIsInstance(part, (ast.AugAssign, ast.Delete, ast.Yield, ast.YieldFrom))
+                        if isinstance(part, (ast.Attribute, ast.Subscript)):
+                            self.assertIsInstance(part.ctx, ast.Load)
+                        if isinstance(part, ast.Call) and isinstance(part.func, ast.Attribute):
+                            self.assertNotIn(part.func.attr, MODIFYING)
+
+    def must_change_nothing(self, node):
+        if any(word.id == "property" for word in node.decorator_list):
+            return True
+        return node.name.startswith("__") and node.name not in ("__init__", "__call__", "__setitem__", "__iadd__")
+
+    def test_what_texts_and_lengths_return(self):
+        for found in self.each_class():
+            for node in found.body:
+                if isinstance(node, ast.FunctionDef) and node.name in ("__str__", "__len__", "__bool__", "__iter__"):
+                    last = node.body[-1]
+                    self.assertEqual(len(node.body) - (ast.get_docstring(node) is not None), 1)
+                    if node.name == "__str__":
+                        self.assertIsInstance(last.value, ast.JoinedStr)
+                    elif isinstance(last, ast.Return):
+                        self.assertEqual(last.value.func.id, node.name.strip("_"))
+                    else:
+                        self.assertEqual((node.name, last.exc.func.id), ("__iter__", "TypeError"))
+
+    def test_narrow_forms(self):
+        for _, tree in self.each_tree():
+            for node in ast.walk(tree):
+                # No += but that of yards; no generator expression, as there are classes with an ==.
+                self.assertNotIsInstance(node, (ast.GeneratorExp, ast.SetComp, ast.NamedExpr, ast.Match, ast.AnnAssign))
+                if isinstance(node, ast.AugAssign):
+                    self.assertEqual(ast.unparse(node.target), "yard")
+                if isinstance(node, ast.Compare):
+                    for sign, side in zip(node.ops, node.comparators):
+                        if isinstance(sign, (ast.Is, ast.IsNot)):
+                            self.assertIn(getattr(side, "value", 0), (None, True, False))
+                if isinstance(node, ast.Try):
+                    self.check_try(node)
+
+    def check_try(self, node):
+        """L6, L19: only own errors are caught; a finally assigns plain values to attributes."""
+        for handler in node.handlers:
+            self.assertEqual(handler.type.id, "BrickError")
+        for statement in node.finalbody:
+            self.assertIsInstance(statement, ast.Assign)
+            self.assertIsInstance(statement.targets[0], ast.Attribute)
+            self.assertIsInstance(statement.value, (ast.Name, ast.Constant))
 
     def test_builtins(self):
         barred = set(dir(builtins)) - ALLOWED_BUILTINS

@@ -56,16 +56,28 @@ def check_names(test, function, **args):
         test.assertEqual(repr_deep(function(*first, **{name: args[name] for name in names[many:]})), expected)
 
 
-def check_raises(test, error, fields, function, *args):
-    """Fails unless the call raises this very error with these very fields, and changes nothing that is passed."""
+def raised_by(test, error, function, *args):
+    """The error that the call raises; fails unless it is of this very class and nothing that is passed is changed."""
     before = copy.deepcopy(args)
     with test.assertRaises(error) as held:
         function(*args)
     test.assertIs(held.exception.__class__, error)
-    test.assertEqual(list(vars(held.exception)), list(fields))
-    for name, value in fields.items():
-        test.assertIs(getattr(held.exception, name), value)
     test.assertEqual(repr_deep(args), repr_deep(before))
+    return held.exception
+
+
+def check_raises(test, error, fields, function, *args):
+    """Fails unless the call raises this very error with these very fields, and changes nothing that is passed."""
+    raised = raised_by(test, error, function, *args)
+    test.assertEqual(list(vars(raised)), list(fields))
+    for name, value in fields.items():
+        test.assertIs(getattr(raised, name), value)
+
+
+def check_error(test, error, fields, function, *args):
+    """As check_raises, but what is in the fields may be made anew."""
+    raised = raised_by(test, error, function, *args)
+    test.assertEqual(repr_deep(vars(raised)), repr_deep(fields))
 
 
 def repr_deep(value):
@@ -190,3 +202,10 @@ def small_boxes(many, most):
     if many == 0:
         return [()]
     return [(side,) + box for side in range(1, most + 1) for box in small_boxes(many - 1, most // side)]
+
+
+def some_pair(rng, many, longest):
+    """A pair with sides up to longest; often with sides alike, or with such that divide one another."""
+    one = tuple(rng.randint(1, longest) for _ in range(many))
+    other = tuple(rng.choice((rng.randint(1, longest), rng.randint(1, longest), side, 1)) for side in one)
+    return (one, other) if rng.random() < 0.5 else (other, one)

@@ -2,7 +2,7 @@
 
 from twobricks.errors import NoNumber
 from twobricks.fillings import covered, filling_error, places
-from twobricks.forms import is_int, volume
+from twobricks.forms import is_index, volume
 
 
 def strides(box):
@@ -80,7 +80,7 @@ def filling_at(kinds, box, number):
     """The filling with this number in ascending order; raises NoNumber."""
     marks = spots(kinds, box)
     many = ways(box, marks, 0, 0)
-    if not is_int(number) or not 0 <= number < many:
+    if not is_index(number, many):
         raise NoNumber(number)
     # How many fillings there are from this one on, among those that begin with the bricks chosen so far.
     behind = many - number

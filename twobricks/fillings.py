@@ -1,7 +1,7 @@
 """Placed bricks, and fillings: what is one, how one is found, parted, joined and mirrored."""
 
 from twobricks.errors import NoSeam, Unfit
-from twobricks.forms import is_int, with_side
+from twobricks.forms import is_index, is_int, with_side
 from twobricks.papers import cut_at, is_filled
 
 
@@ -30,7 +30,7 @@ def lies_in(kinds, box, value):
     if not isinstance(value, tuple) or len(value) != 2:
         return False
     kind, corner = value
-    if not is_int(kind) or not 0 <= kind < len(kinds):
+    if not is_index(kind, len(kinds)):
         return False
     if not isinstance(corner, tuple) or len(corner) != len(box):
         return False
@@ -111,7 +111,7 @@ def fill(pair, box):
 
 def is_seam(kinds, box, filling, axis, at):
     """Whether (axis, at), which may be any values, is a seam of the filling."""
-    if not is_int(axis) or not 0 <= axis < len(box):
+    if not is_index(axis, len(box)):
         return False
     if not is_int(at) or not 0 < at < box[axis]:
         return False

@@ -8,6 +8,11 @@ def is_int(value):
     return isinstance(value, int) and not isinstance(value, bool)
 
 
+def is_index(value, many):
+    """Whether value is the number of one of so many things."""
+    return is_int(value) and 0 <= value < many
+
+
 def is_side(value):
     """Whether value is an integer that a side may be."""
     return is_int(value) and 1 <= value <= MAX_SIDE
@@ -61,7 +66,7 @@ def is_cell(box, value):
     if not isinstance(value, tuple) or len(value) != len(box):
         return False
     for number, side in zip(value, box):
-        if not is_int(number) or not 0 <= number < side:
+        if not is_index(number, side):
             return False
     return True
 
