@@ -42,6 +42,32 @@ INTERFACE = {
     ),
     "pairs": ("within(one, other)", "escape(one, other)", "alike(one, other)", "atoms(pair)", "mates(brick, box)"),
     "lengths": ("units(kinds, box)", "whole(kinds, box)", "lengths_filled(pair, box)"),
+    "plans": (
+        "plan_error(kinds, value)", "box_of(kinds, plan)", "bricks_of(kinds, plan)", "filling_of(kinds, plan)",
+        "plan_for(pair, box)", "plan_of(kinds, box, filling)", "chopped(kinds, box)", "chop(kinds, box)",
+        "fewest_bricks(kinds, box)",
+    ),
+}
+
+# The classes by their files: how each is made, and the methods that stand in it itself.
+CLASSES = {
+    ("bricks", "Bricks(one, other)"): (
+        "read(value)", "within(self, other)", "__call__(self, box)", "__contains__", "__getitem__", "__len__",
+        "__iter__", "__invert__", "__mul__", "__str__", "__eq__",
+    ),
+    ("yards", "Yard(pair, box)"): (
+        "side(self, axis, number)", "brick(self, kind, axis, number)", "swap(self)", "turn(self, order)",
+        "stretch(self, axis, number)", "undo(self)", "attempt(self, batch, *, on_step=None)",
+        "state_at(self, *, version=None)", "each_version(self)", "copy(self)", "__getitem__", "__setitem__", "__iadd__",
+        "__len__", "__bool__", "__str__", "__eq__",
+    ),
+    ("yards", "FullYard(pair, box)"): ("of(pair)",),
+    ("shells", "Shell(yard)"): ("__call__(self, value)", "execute(self, value)"),
+}
+
+PROPERTIES = {
+    "Bricks": ("pair", "one", "other"), "Yard": ("pair", "box", "version", "news", "paper"), "FullYard": ("cut",),
+    "Shell": ("heard",),
 }
 
 
@@ -62,6 +88,31 @@ class InterfaceTest(unittest.TestCase):
                 self.assertTrue(inspect.isfunction(function), name)
                 self.assertEqual(function.__module__, module.__name__)
                 self.assertEqual(signature_of(name, function), signature)
+
+    def test_classes(self):
+        for (file, made), methods in CLASSES.items():
+            module = importlib.import_module("twobricks." + file)
+            name = made.partition("(")[0]
+            found = getattr(module, name)
+            self.assertTrue(inspect.isclass(found), name)
+            self.assertEqual(found.__module__, module.__name__)
+            self.assertEqual(signature_of(name, found), made)
+            for signature in methods:
+                self.check_method(found, signature)
+            for word in PROPERTIES[name]:
+                self.assertIsInstance(vars(found)[word], property)
+                self.assertIsNone(vars(found)[word].fset)
+
+    def check_method(self, found, signature):
+        """Each stands in the class itself; those of Python's signs are called by place only."""
+        name = signature.partition("(")[0]
+        self.assertIn(name, vars(found))
+        if "(" in signature:
+            self.assertEqual(signature_of(name, getattr(found, name)), signature)
+
+    def test_full_yards_are_yards(self):
+        yards = importlib.import_module("twobricks.yards")
+        self.assertTrue(issubclass(yards.FullYard, yards.Yard))
 
 
 if __name__ == "__main__":

@@ -2,7 +2,10 @@
 
 
 class BrickError(ValueError):
-    """What all errors of the package are."""
+    """What all errors of the package are; as a text each is the name of its class, which is what shells answer."""
+
+    def __str__(self):
+        return f"{self.__class__.__name__}"
 
 
 class BadBatch(BrickError):
